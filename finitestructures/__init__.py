@@ -1,0 +1,1 @@
+"""What formulas tell of finite structures, and what they do not."""

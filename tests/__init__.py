@@ -1,0 +1,1 @@
+"""Tests of finitestructures, with plain second ways of telling what it tells."""

@@ -1,0 +1,12 @@
+import doctest
+import unittest
+from pathlib import Path
+
+README = Path(__file__).resolve().parent.parent / "README.md"
+
+
+class Readme(unittest.TestCase):
+    def test_its_examples(self):
+        failed, tried = doctest.testfile(str(README), module_relative=False)
+        self.assertEqual(failed, 0)
+        self.assertGreater(tried, 0)
