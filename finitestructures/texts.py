@@ -183,10 +183,11 @@ def read_plain(reader):
 
 
 def read_names(reader):
-    """The names of values, in parentheses, behind the letter of a relation."""
+    """The name of a value, or two, in parentheses, behind the letter of a relation."""
     reader.take_sign("(")
     names = [reader.take_name()]
-    while reader.next_sign() == ",":
+    # No relation has more than two places, so no second comma goes on.
+    if reader.next_sign() == ",":
         reader.take_sign(",")
         names.append(reader.take_name())
     reader.take_sign(")")

@@ -122,7 +122,7 @@ GRAMMAR = {
         ("name", "spaces", "=", "spaces", "name", "spaces"),
         ("A-Z", "spaces", "(", "spaces", "names", ")", "spaces"),
     ),
-    "names": (("name", "spaces"), ("name", "spaces", ",", "spaces", "names")),
+    "names": (("name", "spaces"), ("name", "spaces", ",", "spaces", "name", "spaces")),
     "name": (("a-z",), ("a-z", "0-9")),
 }
 

@@ -75,7 +75,6 @@ READ = (
     ("  x  =  y  ", A),
     ("R ( x )", B),
     (" E ( x , y ) ", C),
-    ("E(x,y,z)", ("rel", "E", ("x", "y", "z"))),
     ("E(x)&E(x,y)", ("and", (("rel", "E", ("x",)), C))),
     ("((x=y))", A),
     ("( ( x=y ) )", A),
@@ -164,6 +163,9 @@ FAULTS = (
     ("x=y & x=y)", 9), ("x=y &| x=y", 5), ("x=y && x=y", 5), ("x=y ~ x=y", 4), ("x=y~", 3), ("x=y(", 3), ("x=y:", 3),
     ("some x,y: x=y", 6), ("some x:: x=y", 7), ("some (x): x=y", 5), ("some ~x: x=y", 5), ("some X: x=y", 5),
     ("some x12: x=y", 7), ("some x 1: x=y", 7), ("some 1: x=y", 5), ("some x=y: x=y", 6), ("all x: : x=y", 7),
+    # a third name
+    ("E(x,y,z)", 5), ("E(x,y,", 5), ("E(x,y,)", 5), ("E ( x , y1 , z )", 11), ("~E(x,y ,z)", 7), ("(R(x,x,x))", 6),
+    ("E(x,y) & E(x,y,z)", 14), ("( E  (v1,s)  &  E (y  , a)  )  |  (some v0 :E (z,v1, ) &E(z", 51),
     # signs exchanged, and signs of no text at all
     ("x:y", 1), ("x,y", 1), ("R[x]", 1), ("R(x]", 3), ("E(x;y)", 3), ("E(x:y)", 3), ("E(x=y)", 3), ("x-y", 1),
     ("!x=y", 0), ("x=y * x=y", 4), ("some x. x=y", 6), ("some x= x=y", 6), ("\tx=y", 0), ("x=y\n", 3), ("x\n=y", 1),
