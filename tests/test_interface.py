@@ -17,6 +17,10 @@ FUNCTIONS = {
         "turned": 1,
     },
     "texts.py": {"write": 1, "read": 1},
+    "truth.py": {"is_true": 3, "all_values": 3},
+    "games.py": {"is_fair": 4, "alike": 5, "least_rounds": 4},
+    "strategies.py": {"decide": 5, "is_strategy": 5, "judge": 6},
+    "types.py": {"classes": 3, "hintikka": 3},
 }
 
 
