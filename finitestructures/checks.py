@@ -28,7 +28,12 @@ def is_name(value):
 
 def is_names(value, many):
     """Whether a value is a tuple of so many names of values."""
-    return type(value) is tuple and len(value) == many and all(is_name(name) for name in value)
+    if type(value) is not tuple or len(value) != many:
+        return False
+    for name in value:
+        if not is_name(name):
+            return False
+    return True
 
 
 def is_outside(value, places):

@@ -81,10 +81,8 @@ class Tables:
         return found
 
     def made(self, formula, names, rows):
-        """The table of a formula, from the tables of those directly within it."""
+        """The table of a formula that is no rel and no same, from the tables of those directly within it."""
         kind = formula[0]
-        if kind in ("rel", "same"):
-            return self.plain(formula, names)
         full = self.full(names)
         if kind == "not":
             return full ^ rows[0]
@@ -99,8 +97,11 @@ class Tables:
         found = []
         # From behind, the tables of those within a formula are made before its own, and lie on top of found.
         for here, within in handed_down(formula, names, names_within)[::-1]:
-            rows = [found.pop() for _ in inner(here)]
-            found.append(self.made(here, within, rows))
+            if here[0] in ("rel", "same"):
+                found.append(self.plain(here, within))
+            else:
+                rows = [found.pop() for _ in inner(here)]
+                found.append(self.made(here, within, rows))
         return found[0]
 
 
