@@ -6,6 +6,9 @@ or looked up; and formulas within one another, however many, wait in a list.
 
 from finitestructures.formulas import inner
 
+# Structures have at most 5 elements. A paper with far more of them would only take long to look at.
+MOST_ELEMENTS = 100
+
 
 def is_points(value, many):
     """Whether a value is a tuple of elements of a structure that has many of them."""
@@ -64,3 +67,25 @@ def is_formula(value, structure):
             return False
         waiting.extend(inner(here))
     return True
+
+
+def is_relation(value, kind, many):
+    """Whether a value is a relation of this name and number of places over so many elements."""
+    if type(value) is not tuple or len(value) != 3 or type(value[0]) is not str or type(value[1]) is not int:
+        return False
+    name, places, rows = value
+    if (name, places) != kind or type(rows) is not tuple:
+        return False
+    return all([is_points(row, many) and len(row) == places for row in rows]) and is_rising(rows)
+
+
+def is_structure(value, kinds):
+    """Whether a value is a structure with relations of just these names and numbers of places."""
+    if type(value) is not tuple or len(value) != 3 or type(value[0]) is not str or type(value[1]) is not int:
+        return False
+    word, many, relations = value
+    if word != "structure" or not 1 <= many <= MOST_ELEMENTS:
+        return False
+    if type(relations) is not tuple or len(relations) != len(kinds):
+        return False
+    return all([is_relation(relation, kind, many) for relation, kind in zip(relations, kinds)])

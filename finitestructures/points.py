@@ -37,3 +37,12 @@ def last_atoms(structure, many):
     for relation, places, _ in structure[2]:
         found.extend([("rel", relation, row) for row in rows_of(names, places) if last in row])
     return found
+
+
+def subsets(things):
+    """All tuples of some of the things, none of them too, each in their order; all rise if the things do."""
+    found = [()]
+    for thing in things[::-1]:
+        # The empty one stays the first; those with this thing come ahead of those without it.
+        found = [(), *[(thing, *row) for row in found], *found[1:]]
+    return found

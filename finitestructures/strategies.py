@@ -42,7 +42,13 @@ def parting(game, points, others):
     lost = [pick for pick in game.picks() if game.reply(pairs, pick[0], pick[1], rounds - 1) is None]
     side, picked = lost[0]
     rows = [parting(game, (*points, one), (*others, two)) for one, two in game.replies(side, picked)]
-    name = point_name(len(points))
+    return told_by_pick(side, point_name(len(points)), rows)
+
+
+def told_by_pick(side, name, rows):
+    """A parting formula from those of all replies to what is picked in a structure, 0 or 1, under the name."""
+    # In order, so that formulas of unlike replies that tell the same are the same.
+    rows = sorted(rows)
     if side == 0:
         return ("some", name, together("and", rows))
     return ("all", name, together("or", rows))

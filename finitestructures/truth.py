@@ -1,10 +1,12 @@
 """Truth of formulas in structures.
 
 A formula within names of values has a table: a whole number each bit of which
-stands for elements in the place of all these names, and is set where the
-formula is true of them. With n elements and names x, y, z the bit is
-x + y * n + z * n * n. So each not, and, or, some and all takes a few steps,
-however many values the names around it may have.
+stands for one of some structures and for elements in the place of all these
+names, and is set where the formula is true of them. With m structures of n
+elements each and names x, y, z the bit is the place of the structure, from 0,
+and m * (x + y * n + z * n * n) more. So each not, and, or, some and all takes a
+few steps, however many structures there are and however many values the names
+around it may have.
 """
 
 from finitestructures.formulas import handed_down, inner
@@ -12,14 +14,19 @@ from finitestructures.points import all_points
 
 
 class Tables:
-    """The tables of formulas in a structure; names that are not within have a fixed value."""
+    """The tables of formulas in structures of one kind that have as many elements.
 
-    def __init__(self, structure, fixed):
-        self.many = structure[1]
-        self.rows = {name: rows for name, _, rows in structure[2]}
+    Names that a formula is not within have a fixed value.
+    """
+
+    def __init__(self, structures, fixed):
+        self.structures = structures
+        self.many = structures[0][1]
         self.fixed = fixed
-        self.sizes = [1]
+        self.sizes = [len(structures)]
         self.known = {}
+        self.known_having = {}
+        self.known_holding = {}
 
     def size(self, names):
         """How many bits a table within the names has."""
@@ -32,32 +39,46 @@ class Tables:
         return (1 << self.size(names)) - 1
 
     def bit(self, row):
-        """The bit that stands for the elements of the row, in the place of as many names."""
+        """The bit that stands for the first structure and the elements of the row, in the place of as many names."""
         return sum([element * self.size(row[:at]) for at, element in enumerate(row)])
 
     def having(self, name, names):
         """For each element, the table within the names of this name having it as its value."""
+        key = (name, names)
+        if key not in self.known_having:
+            self.known_having[key] = self.all_having(name, names)
+        return self.known_having[key]
+
+    def all_having(self, name, names):
+        """The tables that having keeps."""
         if name not in names:
             full = self.full(names)
             return [full if element == self.fixed[name] else 0 for element in range(self.many)]
-        # The innermost of alike names is the one that counts.
-        at = len(names) - 1 - names[::-1].index(name)
+        at = names.index(name)
         full = self.full(names[:at])
         found = [full << (element * self.size(names[:at])) for element in range(self.many)]
-        for place in range(at + 1, len(names)):
-            found = [self.repeated(table, names[:place]) for table in found]
-        return found
+        return [self.widened(table, names, at + 1) for table in found]
 
-    def repeated(self, table, names):
-        """The table of the same within the names and one more behind them."""
-        size = self.size(names)
+    def widened(self, table, names, place):
+        """The table within the names of what has this table within those of them ahead of the place."""
+        for at in range(place, len(names)):
+            table = self.repeated(table, self.size(names[:at]))
+        return table
+
+    def repeated(self, table, size):
+        """The table put once for each element, this many bits apart."""
         return sum([table << (element * size) for element in range(self.many)])
 
-    def parted(self, table, names):
-        """For each element, the table within the names of the same with it as the value of the one more name."""
-        size = self.size(names)
-        full = self.full(names)
-        return [(table >> (element * size)) & full for element in range(self.many)]
+    def holding(self, name):
+        """For each row for which a relation holds somewhere, the table within no names of its holding."""
+        if name not in self.known_holding:
+            found = {}
+            for at, structure in enumerate(self.structures):
+                relations = {relation: rows for relation, _, rows in structure[2]}
+                for row in relations[name]:
+                    found[row] = found.get(row, 0) | (1 << at)
+            self.known_holding[name] = found
+        return self.known_holding[name]
 
     def plain(self, formula, names):
         """The table of a rel or a same, which is kept: it may stand in a formula many times."""
@@ -70,27 +91,39 @@ class Tables:
         """The table of a rel or a same."""
         if formula[0] == "same":
             used = formula[1:]
-            rows = [(element, element) for element in range(self.many)]
+            held = {(element, element): self.full(()) for element in range(self.many)}
         else:
             used = formula[2]
-            rows = self.rows[formula[1]]
+            held = self.holding(formula[1])
         choices = [self.having(name, names) for name in used]
         found = 0
-        for row in rows:
-            found = found | both([tables[element] for tables, element in zip(choices, row)], self.full(names))
+        for row, table in held.items():
+            # What holds in all structures, as it always does where there is one alone, needs no widening.
+            wide = self.full(names) if table == self.full(()) else self.widened(table, names, 0)
+            found = found | both([tables[element] for tables, element in zip(choices, row)], wide)
         return found
 
     def made(self, formula, names, rows):
         """The table of a formula that is no rel and no same, from the tables of those directly within it."""
         kind = formula[0]
-        full = self.full(names)
         if kind == "not":
-            return full ^ rows[0]
-        if kind in ("some", "all"):
-            rows = self.parted(rows[0], names)
-        if kind in ("and", "all"):
-            return both(rows, full)
-        return either(rows)
+            return self.full(names) ^ rows[0]
+        if kind == "and":
+            return both(rows, self.full(names))
+        if kind == "or":
+            return either(rows)
+        return self.bound(formula, names, rows[0])
+
+    def bound(self, formula, names, table):
+        """The table of a some or an all, from the table of what is within it."""
+        within = names_within(formula, names)
+        size = self.size(within[:within.index(formula[1])])
+        choices = self.having(formula[1], within)
+        # All of these have their bits where the name has element 0.
+        rows = [(table & chosen) >> (element * size) for element, chosen in enumerate(choices)]
+        found = either(rows) if formula[0] == "some" else both(rows, choices[0])
+        # Which value a name has outside does not matter where it is bound anew.
+        return self.repeated(found, size) if within == names else found
 
     def of(self, formula, names):
         """The table of a formula within the names."""
@@ -106,8 +139,10 @@ class Tables:
 
 
 def names_within(formula, names):
-    """The names that what is directly within a formula is within; alike ones, too, of which the last one counts."""
-    return (*names, formula[1]) if formula[0] in ("some", "all") else names
+    """The names that what is directly within a formula is within."""
+    if formula[0] not in ("some", "all") or formula[1] in names:
+        return names
+    return (*names, formula[1])
 
 
 def both(rows, full):
@@ -127,11 +162,17 @@ def either(rows):
 
 def is_true(structure, formula, values):
     """Whether a formula is true in a structure with the values of its free names."""
-    return Tables(structure, values).of(formula, ()) == 1
+    return Tables([structure], values).of(formula, ()) == 1
 
 
 def all_values(structure, formula, names):
     """The tuples of elements with which, in the place of the names, a formula is true, rising."""
-    tables = Tables(structure, {})
+    tables = Tables([structure], {})
     table = tables.of(formula, names)
     return tuple([row for row in all_points(structure[1], len(names)) if (table >> tables.bit(row)) & 1])
+
+
+def models_among(structures, sentence):
+    """Those of some structures of one kind, with as many elements, in which a sentence is true."""
+    table = Tables(structures, {}).of(sentence, ())
+    return [structure for at, structure in enumerate(structures) if (table >> at) & 1]

@@ -21,6 +21,17 @@ FUNCTIONS = {
     "games.py": {"is_fair": 4, "alike": 5, "least_rounds": 4},
     "strategies.py": {"decide": 5, "is_strategy": 5, "judge": 6},
     "types.py": {"classes": 3, "hintikka": 3},
+    "isomorphisms.py": {"isomorphism": 2, "automorphisms": 1, "orbits": 2, "least_form": 1},
+    "defining.py": {"define": 3, "is_definition": 4, "defined_sets": 1},
+    "pebbles.py": {"greatest_system": 3, "part": 3, "is_system": 4, "fewest_pebbles": 2},
+    "maps.py": {
+        "least_map": 2,
+        "count_maps": 2,
+        "sentence_of": 1,
+        "decide_map": 2,
+        "is_plain": 1,
+        "judge_map": 3,
+    },
 }
 
 

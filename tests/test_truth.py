@@ -1,7 +1,7 @@
 import unittest
 from itertools import product
 
-from finitestructures.truth import all_values, is_true
+from finitestructures.truth import all_values, is_true, models_among
 from tests import plain
 from tests.samples import formulas, structures, wide_structures
 
@@ -220,6 +220,56 @@ class AllValues(unittest.TestCase):
             names = (*sorted(plain.plain_free(formula)), "q")
             for structure in wide_structures(5):
                 self.check(structure, formula, names)
+
+
+class BoundAnew(unittest.TestCase):
+    """Names that are bound again within what binds them: only the innermost counts, and tables stay small."""
+
+    def check(self, formula, names):
+        for structure in (ROOM, ONE, *structures(2)[5::29]):
+            wanted = plain_values(structure, formula, names)
+            self.assertEqual(all_values(structure, formula, names), wanted, (structure, formula, names))
+
+    def test_two_and_three_names(self):
+        kinds = ("some", "all")
+        for one, two, three in product(kinds, repeat=3):
+            for x, y, z in product("xy", repeat=3):
+                inner = (three, z, ("or", (("and", (E_XY, R_X)), ("not", E_YX))))
+                formula = (one, x, ("and", (("or", (R_X, E_XY)), (two, y, ("or", (inner, ("not", R_Y)))))))
+                self.check(formula, ("x", "y"))
+                self.check(formula, ("y", "z", "x"))
+
+    def test_a_value_from_outside(self):
+        formula = ("and", (R_X, ("some", "x", ("and", (("not", R_X), ("some", "y", E_XY))))))
+        for x in range(3):
+            self.assertIs(is_true(ROOM, formula, {"x": x}), x == 1)
+        self.check(formula, ("x",))
+
+    def test_many_times(self):
+        # A chain of so many edges, told with two names: what the last of them leaves free is x.
+        line = ("structure", 5, (("E", 2, ((0, 1), (1, 2), (2, 3), (3, 4))), ("R", 1, ())))
+        for many, told in ((1, ((0,), (1,), (2,), (3,))), (3, ((0,), (1,))), (4, ((0,),)), (5, ()), (300, ())):
+            formula = TRUE
+            for k in range(many):
+                name, edge = (("y", E_XY), ("x", E_YX))[(many - 1 - k) % 2]
+                formula = ("some", name, ("and", (edge, formula)))
+            self.assertEqual(all_values(line, formula, ("x",)), told)
+            self.assertEqual(all_values(ROOM, formula, ("x",)), ((0,), (1,), (2,)))
+
+
+class ModelsAmong(unittest.TestCase):
+    def test_as_one_by_one(self):
+        sentences = [row for row in formulas() if not plain.plain_free(row)]
+        self.assertGreater(len(sentences), 60)
+        for formula in sentences[::5]:
+            for rooms in (structures(1), structures(2), structures(3)[5::97], [ROOM], wide_structures(4)):
+                wanted = [room for room in rooms if plain.holds(room, formula, {})]
+                self.assertEqual(models_among(rooms, formula), wanted, formula)
+
+    def test_the_same_structure_twice(self):
+        formula = ("some", "x", R_X)
+        self.assertEqual(models_among([ROOM, ROOM, ROOM], formula), [ROOM, ROOM, ROOM])
+        self.assertEqual(models_among((ROOM, ROOM), ("not", formula)), [])
 
 
 class Unchanged(unittest.TestCase):
