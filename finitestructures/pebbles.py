@@ -89,7 +89,7 @@ class Pebbles:
     def new_sentence(self, row):
         """The formula that sentence keeps, of the least rank."""
         pairs = tuple(sorted(row))
-        if self.is_lost(pairs, 0):
+        if not self.game.fair(pairs):
             points, others = position(row)
             return plain_parting(self.game, points, others)
         place, side, replies = self.lost_pick(row, self.lost[pairs] - 1)
@@ -100,7 +100,7 @@ class Pebbles:
         """A place for a pebble, the structure of a pick, and all replies to it, which are lost within the rounds."""
         places = [len(row)] if len(row) < self.pebbles else list(range(len(row)))
         for place in places:
-            rest = tuple(sorted(row[:place] + row[place + 1:]))
+            rest = row[:place] + row[place + 1:]
             for side, picked in self.game.picks():
                 replies = self.game.replies(side, picked)
                 if all([self.is_lost(met(rest, pair), rounds) for pair in replies]):

@@ -1,8 +1,6 @@
 """What point c7 says of bounds: the greatest that is handed in is answered within a second or so."""
 
-import unittest
 from itertools import product
-from time import process_time
 
 from finitestructures.formulas import parts, rank
 from finitestructures.games import alike, is_fair, least_rounds
@@ -11,9 +9,7 @@ from finitestructures.truth import all_values, is_true
 from finitestructures.types import classes, hintikka
 from tests import plain, plain_games
 from tests.samples import wide_structures
-
-# Far more than it takes, so that a slow machine does not fail, and far less than a plain search would take.
-SECONDS = 4
+from tests.timing import Timed
 
 
 def full(many, all_of_them):
@@ -39,13 +35,7 @@ def sixty_parts(one, two):
     return ("not", formula)
 
 
-class Bounds(unittest.TestCase):
-    def quick(self, function, *handed):
-        began = process_time()
-        told = function(*handed)
-        self.assertLess(process_time() - began, SECONDS, function.__name__)
-        return told
-
+class Bounds(Timed):
     def test_truth(self):
         names = ("v0", "v1", "v2")
         for one, two in (("some", "all"), ("all", "some"), ("some", "some")):

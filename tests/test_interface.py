@@ -1,10 +1,12 @@
-"""The interface that has been built so far, and the sizes that the rules for the package set."""
+"""The interface, and the sizes that the rules for the package set."""
 
 import ast
+import re
 import unittest
 from pathlib import Path
 
 PACKAGE = Path(__file__).resolve().parent.parent / "finitestructures"
+DOCUMENT = PACKAGE.parent.parent / "shared" / "DOC.md"
 
 CLASSES = {"errors.py": {"StructureFault": ["ValueError"], "TextFault": ["StructureFault"]}}
 
@@ -32,6 +34,18 @@ FUNCTIONS = {
         "is_plain": 1,
         "judge_map": 3,
     },
+    "cores.py": {"part_of": 2, "core": 1, "is_core": 1},
+    "products.py": {"product": 2, "sum_of": 2},
+    "models.py": {"structures": 2, "least_model": 3, "spectrum": 3, "count_models": 3, "follows": 4},
+    "counting.py": {
+        "count_one_to_one": 2,
+        "count_onto": 2,
+        "partitions": 1,
+        "quotient": 2,
+        "sums": 2,
+        "part_by_counts": 2,
+        "judge_counts": 3,
+    },
 }
 
 
@@ -47,6 +61,27 @@ class Interface(unittest.TestCase):
             }
             for function, many in functions.items():
                 self.assertEqual(defined.get(function), many, (name, function))
+
+    def test_the_names_that_the_document_tells(self):
+        if not DOCUMENT.exists():
+            return
+        text = DOCUMENT.read_text(encoding="utf-8").split("# The interface")[1]
+        told = {}
+        for section in re.split(r"^## finitestructures/", text, flags=re.MULTILINE)[1:]:
+            name, *rows = section.splitlines()
+            heads = [row[2:].split(":")[0] for row in rows if row.startswith("- ") and not row.startswith("- class ")]
+            found = re.findall(r"(\w+)\(([^)]*)\)", " ".join(re.sub(r"\)\..*", ")", head) for head in heads))
+            if found:
+                told[name] = {function: len(names.split(",")) for function, names in found}
+        self.assertEqual(told, FUNCTIONS)
+
+    def test_each_function_takes_its_arguments_by_place(self):
+        for name, functions in FUNCTIONS.items():
+            for node in tree_of(name).body:
+                if isinstance(node, ast.FunctionDef) and node.name in functions:
+                    taken = node.args
+                    rest = (taken.posonlyargs, taken.kwonlyargs, taken.vararg, taken.kwarg, taken.defaults)
+                    self.assertFalse(any(rest), (name, node.name))
 
     def test_each_class_is_defined_in_its_file(self):
         for name, classes in CLASSES.items():

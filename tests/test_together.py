@@ -9,12 +9,17 @@ import unittest
 from itertools import product
 from pathlib import Path
 
+from finitestructures.cores import core
+from finitestructures.counting import judge_counts, part_by_counts, sums
 from finitestructures.games import alike, least_rounds
-from finitestructures.isomorphisms import automorphisms, isomorphism, orbits
-from finitestructures.maps import decide_map, judge_map, sentence_of
+from finitestructures.isomorphisms import automorphisms, isomorphism, least_form, orbits
+from finitestructures.maps import count_maps, decide_map, judge_map, sentence_of
+from finitestructures.models import count_models, least_model, structures
 from finitestructures.pebbles import fewest_pebbles, greatest_system, part
 from finitestructures.strategies import decide
-from finitestructures.types import classes
+from finitestructures.texts import read
+from finitestructures.truth import is_true
+from finitestructures.types import classes, hintikka
 from tests import plain, plain_maps
 from tests.samples import ARROW, BARE, EDGE, line, point_pairs, ring, small_pairs, structures_of, three_pairs
 
@@ -38,12 +43,17 @@ EXAMPLE = """
 
 # Prints papers and lists of several kinds; what it prints may not depend on the order of sets.
 SHOWN = """
+from finitestructures.cores import core
+from finitestructures.counting import part_by_counts, quotient, sums
 from finitestructures.defining import define
 from finitestructures.formulas import free, names_in
 from finitestructures.isomorphisms import automorphisms, least_form, orbits
 from finitestructures.maps import decide_map
+from finitestructures.models import count_models, follows, least_model, structures
 from finitestructures.pebbles import greatest_system, part
+from finitestructures.products import product, sum_of
 from finitestructures.strategies import decide
+from finitestructures.texts import read
 from finitestructures.types import classes, hintikka
 from tests.samples import EDGE, line, ring
 
@@ -52,6 +62,10 @@ print(formula, free(formula), names_in(formula), part(ring(4), ring(4), 2), grea
 print(define(line(3), 2, ((0, 1), (1, 2))), define(ring(4), 1, ((0,), (3,))), decide_map(ring(5), ring(3)))
 print(decide(line(3), line(4), (), (), 2), decide(line(4), line(4), (0,), (0,), 2), hintikka(line(3), (1,), 2))
 print(classes(ring(4), 2, 1), orbits(ring(4), 2), automorphisms(ring(5)), least_form(ring(5)))
+print(core(ring(4)), product(EDGE, line(3)), sum_of(EDGE, line(3)), structures((("E", 2),), 2), sums(EDGE, line(3)))
+kinds, sentence = (("E", 2),), read("all x: some y: E(x,y) & ~x=y")
+print(count_models(kinds, sentence, 3), least_model(kinds, sentence, 3), follows(kinds, sentence, read("false"), 3))
+print(quotient(ring(4), (0, 1, 0, 1)), part_by_counts(line(3), ring(3)), part_by_counts(ring(3), ring(3)))
 """
 
 
@@ -121,6 +135,29 @@ class Together(unittest.TestCase):
                 if told[0] == "formula":
                     self.assertIs(plain.holds(structure, told[1], {}), True)
                     self.assertIs(plain.holds(other, told[1], {}), False)
+
+    def test_counts_of_maps_tell_isomorphisms(self):
+        for structure, other in [*list(small_pairs())[::7], *three_pairs()[::5]]:
+            if len(structure[2]) < 3 and [row[1] for row in structure[2]].count(1) < 2:
+                paper = part_by_counts(structure, other)
+                self.assertIs(paper[0] == "isomorphism", isomorphism(structure, other) is not None)
+                self.assertIs(judge_counts(structure, other, paper), True)
+                self.assertEqual([sum(row) for row in sums(structure, other)], [count_maps(structure, other)] * 2)
+
+    def test_models_of_what_tells_a_structure(self):
+        # With as many rounds as elements and one more, only structures that are isomorphic are alike.
+        for structure in (ARROW, EDGE, *structures((("E", 2),), 2)[::3]):
+            sentence = hintikka(structure, (), 3)
+            self.assertEqual(least_model((("E", 2),), sentence, 3), least_form(structure))
+            self.assertEqual(count_models((("E", 2),), sentence, 2)[1], 1)
+            self.assertEqual(count_models((("E", 2),), sentence, 3), (0, 0))
+
+    def test_maps_both_ways_keep_plain_sentences(self):
+        texts = ("some x: E(x,x)", "some x: some y: E(x,y) & E(y,x)", "some x: some y: some z: E(x,y) & E(y,z)")
+        for structure in structures((("E", 2),), 3)[::19]:
+            small = core(structure)[0]
+            for text in texts:
+                self.assertIs(is_true(structure, read(text), {}), is_true(small, read(text), {}))
 
     def test_automorphisms_are_isomorphisms(self):
         for structure in (ring(5), line(5), BARE[3], EDGE):
