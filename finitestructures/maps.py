@@ -21,15 +21,21 @@ def count_maps(structure, other):
     last = last_uses(due)
     counts = {(): 1}
     for at, rows in enumerate(due):
-        found = {}
-        for images, many in counts.items():
-            for one in range(other[1]):
-                longer = (*images, one)
-                if is_kept(rows, longer):
-                    key = tuple([image if last[place] > at else None for place, image in enumerate(longer)])
-                    found[key] = found.get(key, 0) + many
-        counts = found
+        needed = [use > at for use in last[:at + 1]]
+        counts = longer_counts(counts, rows, other[1], needed)
     return sum(counts.values())
+
+
+def longer_counts(counts, due, many, needed):
+    """How often images come with one more, of so many, behind that keeps what is due; None where none is needed."""
+    found = {}
+    for images, count in counts.items():
+        for one in range(many):
+            longer = (*images, one)
+            if is_kept(due, longer):
+                key = tuple([image if wanted else None for image, wanted in zip(longer, needed)])
+                found[key] = found.get(key, 0) + count
+    return found
 
 
 def last_uses(due):
@@ -42,15 +48,10 @@ def last_uses(due):
     return found
 
 
-def value_name(element):
-    """The name of the value for an element in the sentence of a structure."""
-    return f"e{element}"
-
-
 def sentence_of(structure):
     """The plain sentence that tells all rows of a structure."""
-    names = [value_name(element) for element in range(structure[1])]
-    told = [("rel", name, led(row, names)) for name, _, rows in structure[2] for row in rows]
+    names = [f"e{element}" for element in range(structure[1])]
+    told = [("rel", relation, led(row, names)) for relation, _, rows in structure[2] for row in rows]
     formula = ("and", tuple(told))
     for name in names[::-1]:
         formula = ("some", name, formula)
